@@ -1,0 +1,77 @@
+"""The rules of LANGUAGE.md that a plain look at the package's files can tell."""
+
+import ast
+import builtins
+import pathlib
+import re
+import unittest
+
+PACKAGE = pathlib.Path(__file__).resolve().parent.parent / "zipspring"
+BARRED_WORDS = re.compile(
+    r"\b(type|typing|typing_extensions|enum|Enum|IntEnum|StrEnum|Flag|IntFlag|Generic|Protocol|ABC|ABCMeta"
+    r"|namedtuple|NamedTuple|TypedDict|TYPE_CHECKING|abstractmethod)\b|dataclass|overload|contextmanager"
+)
+BUILTINS = set(
+    "len range enumerate zip min max sum abs sorted reversed int str bool bytes list tuple dict set frozenset"
+    " isinstance ord repr any all divmod Exception ValueError TypeError KeyError IndexError LookupError"
+    " ZeroDivisionError ArithmeticError OverflowError RuntimeError NotImplementedError AttributeError"
+    " StopIteration NotImplemented".split()
+)
+BARRED_BUILTINS = set(dir(builtins)) - BUILTINS
+BARRED_NODES = (
+    ast.Global, ast.AsyncFunctionDef, ast.AsyncFor, ast.AsyncWith, ast.Await, ast.Import, ast.Div, ast.MatMult,
+)
+
+
+def texts():
+    """Each file's name and text."""
+    return [(path.name, path.read_text(encoding="utf-8")) for path in sorted(PACKAGE.glob("**/*.py"))]
+
+
+def nodes():
+    """Each file's name and each node of its tree."""
+    return [(name, node) for name, text in texts() for node in ast.walk(ast.parse(text))]
+
+
+class Language(unittest.TestCase):
+    def test_nothing_but_python_files(self):
+        self.assertTrue((PACKAGE / "__init__.py").is_file())
+        for path in PACKAGE.glob("**/*"):
+            if "__pycache__" not in path.parts and path.is_file():
+                self.assertRegex(path.name, r"\A[a-z0-9_]+\.py\Z")
+
+    def test_signs_and_words(self):
+        for name, text in texts():
+            self.assertRegex(text, r"\A[ -~\n]*\Z", name)
+            self.assertNotRegex(text, BARRED_WORDS, name)
+
+    def test_sizes(self):
+        for name, text in texts():
+            self.assertLessEqual(len(text.splitlines()), 400, name)
+            self.assertLessEqual(max(len(line) for line in text.splitlines()), 120, name)
+        for name, node in nodes():
+            if isinstance(node, ast.FunctionDef):
+                self.assertLessEqual(node.end_lineno - node.lineno + 1, 40, f"{name}: {node.name}")
+
+    def test_imports(self):
+        for name, node in nodes():
+            if isinstance(node, ast.ImportFrom):
+                self.assertEqual(0, node.level, name)
+                self.assertEqual(0, node.col_offset, name)
+                self.assertRegex(node.module, r"\Azipspring\.[a-z_]+\Z", name)
+                self.assertNotIn("*", [alias.name for alias in node.names], name)
+
+    def test_barred_nodes(self):
+        for name, node in nodes():
+            self.assertNotIsInstance(node, BARRED_NODES, name)
+            if isinstance(node, ast.Constant):
+                self.assertNotIsInstance(node.value, (float, complex), name)
+                self.assertNotIn("%", str(node.value), name)
+
+    def test_names(self):
+        for name, node in nodes():
+            if isinstance(node, ast.Name):
+                self.assertNotIn(node.id, BARRED_BUILTINS, name)
+                self.assertFalse(node.id.startswith("_"), f"{name}: {node.id}")
+                if not isinstance(node.ctx, ast.Load):
+                    self.assertNotIn(node.id, BUILTINS, name)

@@ -1,0 +1,66 @@
+"""What the tests hand in: things that are none of what is asked for, and terms of a given depth and size."""
+
+A = ("row", "a")
+B = ("row", "b")
+
+
+def within(many, inner=A):
+    """A term of that many within one another: the inner one and behinds around it."""
+    for _ in range(many - 1):
+        inner = ("behind", inner)
+    return inner
+
+
+def in_all(many):
+    """A term of that many in all, as flat as can be."""
+    if many == 1:
+        return A
+    if many == 2:
+        return ("behind", A)
+    left = (many - 1) // 2
+    return ("zip", in_all(left), in_all(many - 1 - left))
+
+
+def nested(many, wrap, inner=A):
+    """The inner one, wrapped that many times."""
+    for _ in range(many):
+        inner = wrap(inner)
+    return inner
+
+
+def no_texts():
+    """Small things that are neither texts nor terms; of these only the empty tuple is a book."""
+    return [
+        None, True, False, 0, 1, 9, -1, 10 ** 59, 10 ** 199, -(10 ** 199),
+        (), [], ((),), [[]], (None,), [None], ("a",), ["a"], ("a", "b"), ["a", "b"], (0, 1), [0, 1],
+        (("a",),), [["a"]], ("row",), ["row", "a"], ("row", "zip"), ("row", ["a"]),
+    ]
+
+
+def great_things():
+    """Thirty within one another, or some more, or up to three thousand in all."""
+    wraps = [
+        lambda inner: (inner,),
+        lambda inner: [inner],
+        lambda inner: (inner, "a"),
+        lambda inner: ("row", inner),
+        lambda inner: ("behind", inner),
+        lambda inner: ["behind", inner],
+        lambda inner: ("behind", [inner]),
+        lambda inner: ("sign", 0, inner),
+        lambda inner: ("sign", inner, A),
+        lambda inner: ("zip", inner, A),
+        lambda inner: ("zip", A, inner),
+        lambda inner: ("a", inner),
+        lambda inner: (("a", inner),),
+    ]
+    things = []
+    for wrap in wraps:
+        for inner in (A, (), [], None, "a", 10 ** 199):
+            for many in (11, 14, 29):
+                things.append(nested(many, wrap, inner))
+    things.extend([(None,) * 2999, [0] * 2999, ("row",) * 2999, ("zip",) + (A,) * 990, ("behind",) * 2999])
+    things.extend([(("a", A),) * 590, ("row", "a" * 2900), ("row",) + ("a",) * 2900, "a" * 4000, "zip " * 1000])
+    things.extend([nested(9, lambda inner: ("zip", inner, inner)), nested(9, lambda inner: [inner, inner], None)])
+    things.append(tuple(("a", within(10)) for _ in range(130)))
+    return things

@@ -1,0 +1,1 @@
+"""Zipspring: rows without end, told by equations."""
