@@ -4,7 +4,7 @@ import copy
 import itertools
 import unittest
 
-from tests.things import A, B, great_things, in_all, no_texts, within
+from tests.things import A, Asking, B, great_things, in_all, no_texts, within
 from zipspring.books import is_book, term_of
 from zipspring.errors import NoName
 
@@ -18,14 +18,8 @@ def ring(names):
     return tuple((name, ("sign", number, ("row", other))) for number, (name, other) in pairs)
 
 
-class Books(unittest.TestCase):
-    def yes(self, thing):
-        with self.subTest(repr(thing)):
-            self.assertIs(True, is_book(thing))
-
-    def no(self, thing):
-        with self.subTest(repr(thing)[:80]):
-            self.assertIs(False, is_book(thing))
+class Books(Asking):
+    ask = staticmethod(is_book)
 
     def test_ordinary(self):
         self.yes((("a", A),))

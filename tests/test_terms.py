@@ -4,18 +4,12 @@ import copy
 import string
 import unittest
 
-from tests.things import A, B, great_things, in_all, nested, no_texts, within
+from tests.things import A, Asking, B, great_things, in_all, nested, no_texts, within
 from zipspring.terms import is_name, is_term, names_in
 
 
-class Names(unittest.TestCase):
-    def yes(self, thing):
-        with self.subTest(repr(thing)):
-            self.assertIs(True, is_name(thing))
-
-    def no(self, thing):
-        with self.subTest(repr(thing)[:80]):
-            self.assertIs(False, is_name(thing))
+class Names(Asking):
+    ask = staticmethod(is_name)
 
     def test_ordinary(self):
         for name in ("a", "z", "ab", "row", "sign", "morse", "abcdefgh", "ijklmnop", "qrstuvwx", "yz"):
@@ -54,14 +48,8 @@ class Names(unittest.TestCase):
         self.assertIs(False, is_name(thing="zip"))
 
 
-class Terms(unittest.TestCase):
-    def yes(self, thing):
-        with self.subTest(repr(thing)):
-            self.assertIs(True, is_term(thing))
-
-    def no(self, thing):
-        with self.subTest(repr(thing)[:80]):
-            self.assertIs(False, is_term(thing))
+class Terms(Asking):
+    ask = staticmethod(is_term)
 
     def test_four_forms(self):
         self.yes(("row", "a"))

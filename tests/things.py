@@ -1,5 +1,7 @@
 """What the tests hand in: things that are none of what is asked for, and terms of a given depth and size."""
 
+import unittest
+
 A = ("row", "a")
 B = ("row", "b")
 
@@ -64,3 +66,17 @@ def great_things():
     things.extend([nested(9, lambda inner: ("zip", inner, inner)), nested(9, lambda inner: [inner, inner], None)])
     things.append(tuple(("a", within(10)) for _ in range(130)))
     return things
+
+
+class Asking(unittest.TestCase):
+    """A base for tests of a function that tells True or False of a thing; each class below sets its own."""
+
+    ask = None
+
+    def yes(self, thing):
+        with self.subTest(repr(thing)[:80]):
+            self.assertIs(True, self.ask(thing))
+
+    def no(self, thing):
+        with self.subTest(repr(thing)[:80]):
+            self.assertIs(False, self.ask(thing))
