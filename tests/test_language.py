@@ -18,6 +18,11 @@ BUILTINS = set(
     " StopIteration NotImplemented".split()
 )
 BARRED_BUILTINS = set(dir(builtins)) - BUILTINS
+METHODS = set(
+    "append clear copy count endswith extend find get index insert isalnum isalpha isdigit islower isspace isupper"
+    " items join keys ljust lower lstrip partition pop remove replace reverse rfind rjust rpartition rsplit rstrip"
+    " setdefault split splitlines startswith strip update upper values zfill bit_length sort add discard".split()
+)
 BARRED_NODES = (
     ast.Global, ast.AsyncFunctionDef, ast.AsyncFor, ast.AsyncWith, ast.Await, ast.Import, ast.Div, ast.MatMult,
 )
@@ -75,3 +80,27 @@ class Language(unittest.TestCase):
                 self.assertFalse(node.id.startswith("_"), f"{name}: {node.id}")
                 if not isinstance(node.ctx, ast.Load):
                     self.assertNotIn(node.id, BUILTINS, name)
+
+    def test_methods(self):
+        own = {node.name for _, node in nodes() if isinstance(node, ast.FunctionDef)}
+        for name, node in nodes():
+            if isinstance(node, ast.Call) and isinstance(node.func, ast.Attribute):
+                self.assertIn(node.func.attr, METHODS | own, name)
+
+    def test_is(self):
+        for name, node in nodes():
+            if isinstance(node, ast.Compare):
+                for sign, thing in zip(node.ops, node.comparators):
+                    if isinstance(sign, (ast.Is, ast.IsNot)):
+                        self.assertIn(ast.unparse(thing), ("None", "True", "False"), name)
+
+    def test_no_two_files_import_each_other(self):
+        imports = {name[:-3]: set() for name, _ in texts()}
+        for name, node in nodes():
+            if isinstance(node, ast.ImportFrom):
+                imports[name[:-3]].add(node.module.removeprefix("zipspring."))
+        while imports:
+            free = [name for name in imports if not imports[name] & set(imports)]
+            self.assertNotEqual([], free, imports)
+            for name in free:
+                del imports[name]

@@ -1,4 +1,4 @@
-"""What the tests hand in: things that are none of what is asked for, and terms of a given depth and size."""
+"""What the tests hand in: things that are none of what is asked for; terms, books and machines of a given size."""
 
 import unittest
 
@@ -66,6 +66,38 @@ def great_things():
     things.extend([nested(9, lambda inner: ("zip", inner, inner)), nested(9, lambda inner: [inner, inner], None)])
     things.append(tuple(("a", within(10)) for _ in range(130)))
     return things
+
+
+def random_term(rng, names, room=20, depth=10):
+    """A term of the names, of at most room in all and depth within one another."""
+    kind = rng.choice(("row", "sign", "behind", "zip"))
+    if kind == "row" or depth == 1 or room == 1 or (kind == "zip" and room < 3):
+        return ("row", rng.choice(names))
+    if kind == "sign":
+        return ("sign", rng.randrange(10), random_term(rng, names, room - 1, depth - 1))
+    if kind == "behind":
+        return ("behind", random_term(rng, names, room - 1, depth - 1))
+    left = rng.randrange(1, room - 1)
+    one = random_term(rng, names, left, depth - 1)
+    return ("zip", one, random_term(rng, names, room - 1 - left, depth - 1))
+
+
+def random_book(rng, many, room=8):
+    """A book of that many equations."""
+    names = [chr(97 + number) for number in range(many)]
+    return tuple((name, random_term(rng, names, room)) for name in names)
+
+
+def chain(many):
+    """A machine of that many states: its sign is 1 where the place, by twos written, has as many ones, but one."""
+    return tuple((0, number, number + 1) for number in range(many - 1)) + ((1, many - 1, many - 1),)
+
+
+def random_machine(rng, many, many_signs=3):
+    """A machine of that many states."""
+    signs = [rng.randrange(many_signs) for _ in range(many)]
+    same = [[other for other in range(many) if signs[other] == sign] for sign in signs]
+    return tuple((signs[k], rng.choice(same[k]), rng.randrange(many)) for k in range(many))
 
 
 class Asking(unittest.TestCase):

@@ -1,15 +1,16 @@
 """Signs, names and terms [4]."""
 
+from zipspring.wholes import is_below
+
 LONGEST_NAME = 8
 WORDS_OF_TERMS = ("zip", "behind")
-GREATEST_SIGN = 9
+MANY_SIGNS = 10
 MOST_WITHIN = 10
 MOST_IN_ALL = 20
 
 
 def is_sign(thing):
-    # A truth is an int for Python, but no whole number here.
-    return isinstance(thing, int) and not isinstance(thing, bool) and 0 <= thing <= GREATEST_SIGN
+    return is_below(thing, MANY_SIGNS)
 
 
 def is_name(thing):
