@@ -4,11 +4,9 @@ import copy
 import random
 import unittest
 
-from tests.things import Asking, chain, great_things, nested, no_texts, random_machine
+from tests.things import MORSE, Asking, chain, great_things, nested, no_texts, random_machine
 from zipspring.machines import is_machine, sign_at
 
-# Whether a place has an odd number of ones, by twos written.
-MORSE = ((0, 0, 1), (1, 1, 0))
 # 1 at place 0 and at each power of two, else 0.
 POWERS = ((1, 0, 1), (1, 1, 2), (0, 2, 2))
 # Its states even are other states than they themselves.

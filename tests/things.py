@@ -4,6 +4,8 @@ import unittest
 
 A = ("row", "a")
 B = ("row", "b")
+# Whether a place has an odd number of ones, by twos written.
+MORSE = ((0, 0, 1), (1, 1, 0))
 
 
 def within(many, inner=A):
@@ -88,9 +90,9 @@ def random_book(rng, many, room=8):
     return tuple((name, random_term(rng, names, room)) for name in names)
 
 
-def chain(many):
-    """A machine of that many states: its sign is 1 where the place, by twos written, has as many ones, but one."""
-    return tuple((0, number, number + 1) for number in range(many - 1)) + ((1, many - 1, many - 1),)
+def chain(many, few=0, enough=1):
+    """A least machine of that many states, by how many ones the place has, written by twos: many - 1 are enough."""
+    return tuple((few, number, number + 1) for number in range(many - 1)) + ((enough, many - 1, many - 1),)
 
 
 def random_machine(rng, many, many_signs=3):
@@ -98,6 +100,19 @@ def random_machine(rng, many, many_signs=3):
     signs = [rng.randrange(many_signs) for _ in range(many)]
     same = [[other for other in range(many) if signs[other] == sign] for sign in signs]
     return tuple((signs[k], rng.choice(same[k]), rng.randrange(many)) for k in range(many))
+
+
+def mixed(rng, machine, more):
+    """A machine of the same row with that many states more, each a double of another one, the numbers mixed."""
+    originals = list(range(len(machine))) + [rng.randrange(len(machine)) for _ in range(more)]
+    rest = originals[1:]
+    rng.shuffle(rest)
+    originals = [0] + rest
+    doubles = {number: [at for at, other in enumerate(originals) if other == number] for number in originals}
+    return tuple(
+        (machine[number][0], rng.choice(doubles[machine[number][1]]), rng.choice(doubles[machine[number][2]]))
+        for number in originals
+    )
 
 
 class Asking(unittest.TestCase):
