@@ -115,6 +115,59 @@ def mixed(rng, machine, more):
     )
 
 
+def ring(word, names):
+    """The rows of the equations, nine signs in one at most, by which the first name's row is the word again and again."""
+    pieces = [word[at:at + 9] for at in range(0, len(word), 9)]
+    pieces += [""] * (len(names) - len(pieces))
+    return [" ".join([name, "=", *piece, other]) for name, piece, other in zip(names, pieces, names[1:] + names[0])]
+
+
+def turning(word):
+    """A machine for the word again and again: of a state is known at which sign it is, and by how many it goes on."""
+    order = [(0, 1 % len(word))]
+    for start, step in order:
+        for further in ((start, 2 * step % len(word)), ((start + step) % len(word), 2 * step % len(word))):
+            if further not in order:
+                order.append(further)
+    return tuple(
+        (
+            int(word[start]),
+            order.index((start, 2 * step % len(word))),
+            order.index(((start + step) % len(word), 2 * step % len(word))),
+        )
+        for start, step in order
+    )
+
+
+def free_at(place, names="abcdef"):
+    """The rows of a book whose first name is free at that place alone: by zips, nine in one equation at most."""
+    zips = [int(figure) for figure in bin(place)[:1:-1]]
+    # Zeros by zips, so that walks from far out are short.
+    rows = ["y = zip y z", "z = 0 zip z z"]
+    for at, name in enumerate(names):
+        inner = names[at + 1] if at + 1 < len(names) else "y"
+        for odd in zips[9 * at:9 * at + 9][::-1]:
+            inner = f"zip z {inner}" if odd else f"zip {inner} z"
+        rows.append(f"{name} = {inner}")
+    return rows
+
+
+def changed(machine, place, sign):
+    """A machine of the same row but for that sign at the place."""
+    # The states that are told anew, each with the place of its row that is changed: they go first.
+    anew = [(0, place)]
+    for state, n in anew:
+        further = (machine[state][1 + n % 2], n // 2)
+        if further not in anew:
+            anew.append(further)
+    told = []
+    for state, n in anew:
+        steps = [further + len(anew) for further in machine[state][1:]]
+        steps[n % 2] = anew.index((machine[state][1 + n % 2], n // 2))
+        told.append((sign if n == 0 else machine[state][0], *steps))
+    return tuple(told) + tuple((first, even + len(anew), odd + len(anew)) for first, even, odd in machine)
+
+
 class Asking(unittest.TestCase):
     """A base for tests of a function that tells True or False of a thing; each class below sets its own."""
 
