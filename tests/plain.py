@@ -1,6 +1,33 @@
-"""Plain ways, slow or for small things only, to what the program tells of machines."""
+"""Plain ways, slow or for small things only, to what the program tells of walks and machines."""
 
 from zipspring.machines import sign_at
+
+
+def plain_walk(book, name, n):
+    """Point 7 word by word: at each call all calls ahead of it are looked at, and each zip since them."""
+    way = []
+    while True:
+        if name not in dict(book):
+            return ("waits", name)
+        calls = [thing for thing in way if thing != "zip"] + [(name, n)]
+        for at, thing in enumerate(way):
+            if thing == (name, n):
+                return ("free", calls)
+            if thing != "zip" and thing[0] == name and thing[1] <= n and "zip" not in way[at:]:
+                return ("free", calls)
+        way.append((name, n))
+        term = dict(book)[name]
+        while term[0] != "row":
+            if term[0] == "sign" and n == 0:
+                return ("sign", term[1], calls)
+            if term[0] == "sign":
+                term, n = term[2], n - 1
+            elif term[0] == "behind":
+                term, n = term[1], n + 1
+            else:
+                way.append("zip")
+                term, n = (term[1], n // 2) if n % 2 == 0 else (term[2], n // 2)
+        name = term[1]
 
 
 def row(machine, many):

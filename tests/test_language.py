@@ -23,6 +23,11 @@ METHODS = set(
     " items join keys ljust lower lstrip partition pop remove replace reverse rfind rjust rpartition rsplit rstrip"
     " setdefault split splitlines startswith strip update upper values zfill bit_length sort add discard".split()
 )
+BARRED_NAMES = set(
+    "register mro elements open input version_info with_traceback add_note attrgetter breakpoint builtins compile"
+    " copyright credits delattr dir eval exec exit gc getattr globals hasattr help id importlib license locals"
+    " methodcaller os quit setattr super type vars sys chr".split()
+)
 BARRED_NODES = (
     ast.Global, ast.AsyncFunctionDef, ast.AsyncFor, ast.AsyncWith, ast.Await, ast.Import, ast.Div, ast.MatMult,
 )
@@ -80,6 +85,42 @@ class Language(unittest.TestCase):
                 self.assertFalse(node.id.startswith("_"), f"{name}: {node.id}")
                 if not isinstance(node.ctx, ast.Load):
                     self.assertNotIn(node.id, BUILTINS, name)
+
+    def test_no_local_name_hides_another(self):
+        """No parameter and no local variable has the name of an import or a class of its file, or of a builtin."""
+        for name, text in texts():
+            tree = ast.parse(text)
+            taken = set(dir(builtins))
+            for node in ast.walk(tree):
+                if isinstance(node, ast.ImportFrom):
+                    taken |= {alias.asname or alias.name for alias in node.names}
+                elif isinstance(node, ast.ClassDef):
+                    taken.add(node.name)
+            for node in ast.walk(tree):
+                if isinstance(node, ast.arg):
+                    self.assertNotIn(node.arg, taken, name)
+                elif isinstance(node, ast.Name) and isinstance(node.ctx, ast.Store):
+                    self.assertNotIn(node.id, taken, name)
+
+    def test_barred_names(self):
+        for name, node in nodes():
+            for field in ("id", "arg", "name", "attr"):
+                self.assertNotIn(getattr(node, field, None), BARRED_NAMES, name)
+
+    def test_methods_and_attributes_have_names_of_their_own(self):
+        methods = {
+            method.name for _, node in nodes() if isinstance(node, ast.ClassDef)
+            for method in node.body if isinstance(method, ast.FunctionDef)
+        }
+        for name, node in nodes():
+            if isinstance(node, ast.Attribute) and isinstance(node.ctx, ast.Store):
+                self.assertNotIn(node.attr, methods, name)
+
+    def test_powers(self):
+        for name, node in nodes():
+            if isinstance(node, ast.BinOp) and isinstance(node.op, ast.Pow):
+                self.assertIsInstance(node.right, ast.Constant, name)
+                self.assertLessEqual(node.right.value, 64, name)
 
     def test_methods(self):
         own = {node.name for _, node in nodes() if isinstance(node, ast.FunctionDef)}

@@ -272,7 +272,8 @@ class Verdicts(unittest.TestCase):
 
     def test_too_big_by_zips(self):
         names = "bcdefgh"
-        rows = [f"{name} = 3 1 4 1 5 9 2 6 {at} {other}" for at, (name, other) in enumerate(zip(names, names[1:] + "a"))]
+        pairs = list(zip(names, names[1:] + "a"))
+        rows = [f"{name} = 3 1 4 1 5 9 2 6 {at} {other}" for at, (name, other) in enumerate(pairs)]
         book = book_by(["a = zip b 2 7 1 8 2 8 1 8 b", *rows])
         self.too_big(book, "a")
         for n in range(200):
@@ -280,7 +281,8 @@ class Verdicts(unittest.TestCase):
 
     def test_no_name(self):
         big = book_by(ring("12" + "0" * 27, "abcd"))
-        others = ("", " ", "b", "aa", "A", "zip", "behind", "row", "=", "a = a", "a b", " a", "a ", "0", "~", "a" * 4000)
+        others = ("", " ", "b", "aa", "A", "zip", "behind", "row", "=", "a = a", "a b", " a", "a ", "0", "~")
+        others += ("a" * 4000,)
         for book in ((), read_book("a = a"), read_book("a = 1 a"), big):
             for name in others:
                 if name not in [known for known, _ in book]:

@@ -4,8 +4,10 @@ import copy
 import random
 import unittest
 
+from tests.plain import plain_walk
 from tests.things import A, B, random_book, random_term, within
 from zipspring.books import term_of
+from zipspring.errors import NoName
 from zipspring.reads import read_book, read_term
 from zipspring.walks import hangs, walk
 
@@ -86,31 +88,6 @@ class Hangs(unittest.TestCase):
         self.assertEqual(("sign", 1), hangs(term=term, n=0))
         self.assertEqual(("call", "b", 1), hangs(n=1, term=term))
         self.assertEqual(before, term)
-
-
-def plain_walk(book, name, n):
-    """Point 7 word by word: at each call all calls ahead of it are looked at, and each zip since them."""
-    way = []
-    while True:
-        calls = [thing for thing in way if thing != "zip"] + [(name, n)]
-        for at, thing in enumerate(way):
-            if thing == (name, n):
-                return ("free", calls)
-            if thing != "zip" and thing[0] == name and thing[1] <= n and "zip" not in way[at:]:
-                return ("free", calls)
-        way.append((name, n))
-        term = dict(book)[name]
-        while term[0] != "row":
-            if term[0] == "sign" and n == 0:
-                return ("sign", term[1], calls)
-            if term[0] == "sign":
-                term, n = term[2], n - 1
-            elif term[0] == "behind":
-                term, n = term[1], n + 1
-            else:
-                way.append("zip")
-                term, n = (term[1], n // 2) if n % 2 == 0 else (term[2], n // 2)
-        name = term[1]
 
 
 def known_signs(book, many):
@@ -292,6 +269,13 @@ class Walks(unittest.TestCase):
                     for n in range(20):
                         thing = hangs(term_of(book, name), n)
                         self.assertEqual(sign(name, n), thing[1] if thing[0] == "sign" else sign(*thing[1:]))
+
+    def test_no_name(self):
+        for name in ("", "c", "zip", "a b"):
+            with self.assertRaises(NoName):
+                walk(EXAMPLE, name, 0)
+        with self.assertRaises(NoName):
+            walk((), "a", 0)
 
     def test_a_new_list_of_calls_each_time(self):
         for book, name, n in ((EXAMPLE, "a", 3), (read_book("a = a"), "a", 0)):

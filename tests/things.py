@@ -116,7 +116,7 @@ def mixed(rng, machine, more):
 
 
 def ring(word, names):
-    """The rows of the equations, nine signs in one at most, by which the first name's row is the word again and again."""
+    """The rows of equations, nine signs in one at most, by which the first name's row is the word again and again."""
     pieces = [word[at:at + 9] for at in range(0, len(word), 9)]
     pieces += [""] * (len(names) - len(pieces))
     return [" ".join([name, "=", *piece, other]) for name, piece, other in zip(names, pieces, names[1:] + names[0])]

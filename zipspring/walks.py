@@ -1,6 +1,6 @@
 """What a sign hangs on, and the walk from a name and a place [7]."""
 
-from zipspring.books import term_of
+from zipspring.errors import NoName
 
 
 def follow(term, n):
@@ -23,16 +23,18 @@ def hangs(term, n):
     return follow(term, n)[0]
 
 
-def walk(book, name, n):
-    calls = [(name, n)]
+def walk_by(terms, name, n):
+    """The walk by the terms of names, a dict; ("waits", name) where it comes to a name that has none."""
+    calls = []
     met = set()
-    met.add((name, n))
     # Of each name called since the last zip, the place of its last call, which is its least one: without a zip a name
     # is never called again at a place no less, or the walk is over.
-    since_zip = {name: n}
-    thing, by_zip = follow(term_of(book, name), n)
+    since_zip = {}
+    thing, by_zip = ("call", name, n), False
     while thing[0] == "call":
         called, place = thing[1], thing[2]
+        if called not in terms:
+            return ("waits", called)
         calls.append((called, place))
         if by_zip:
             since_zip = {}
@@ -40,5 +42,12 @@ def walk(book, name, n):
             return ("free", calls)
         met.add((called, place))
         since_zip[called] = place
-        thing, by_zip = follow(term_of(book, called), place)
+        thing, by_zip = follow(terms[called], place)
     return ("sign", thing[1], calls)
+
+
+def walk(book, name, n):
+    told = walk_by({known: term for known, term in book}, name, n)
+    if told[0] == "waits":
+        raise NoName(f"no equation has the name {told[1]}")
+    return told
